@@ -10,8 +10,6 @@ import (
 	"interlocutor/rank"
 )
 
-func value(kind int, f ...int) api.Value { return api.Value{Kind: kind, F: f} }
-
 // rising are values in their order: by kind, by how many fields, by the first field
 // that differs; whatever they mean.
 func rising() []api.Value {
